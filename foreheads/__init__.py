@@ -1,0 +1,1 @@
+"""Foreheads: what any number of people know of their own marks."""

@@ -1,0 +1,168 @@
+"""The interface of DOC.md, and the rules of LANGUAGE.md that a syntax tree can show."""
+
+import ast
+import builtins
+import inspect
+import pathlib
+import unittest
+
+import foreheads
+from foreheads import crowds, errors, sayings
+
+PACKAGE = pathlib.Path(foreheads.__file__).parent
+FILES = sorted(path for path in PACKAGE.iterdir() if path.name != "__pycache__")
+TREES = {path: ast.parse(path.read_text(encoding="ascii")) for path in FILES if path.suffix == ".py"}
+
+SIGNS = ("__and__", "__or__", "__xor__", "__sub__", "__invert__", "__eq__", "__str__")
+ORDERS = ("__le__", "__lt__", "__ge__", "__gt__", "__contains__", "__bool__")
+
+# Module, class, parameters, methods with their parameters.
+CLASSES = (
+    [(errors, name, ("word",), {}) for name in ("InvalidCrowds", "InvalidSaying", "InvalidTalk", "InvalidLine")]
+    + [(errors, name, ("at",), {}) for name in ("InvalidText", "Untrue", "Refused", "NoRow")]
+    + [(errors, "NoCrowd", ("crowd",), {}), (errors, "InvalidCommand", None, {}), (errors, "KnowError", None, {})]
+    + [(crowds, "Crowds", ("starts", "periods", "rows"), {
+        "nothing": ("cls",), "every": ("cls",), "of": ("cls", "crowds"), "at_least": ("cls", "kind", "number"),
+        "leaving": ("cls", "kind", "rest", "period"), "least": ("self",), "size": ("self",),
+        "marked_in": ("self", "number"), "beside": ("self", "kind"), **{name: None for name in SIGNS + ORDERS}})]
+    + [(sayings, name, parameters, {sign: None for sign in SIGNS}) for name, parameters in (
+        ("AtLeast", ("kind", "number")), ("Rest", ("kind", "rest", "period")), ("Fact", ("crowds",)),
+        ("Sure", ("kind",)), ("Silent", ()), ("Knows", ("kind", "saying")), ("Common", ("saying",)),
+        ("Saying", None))]
+)
+FUNCTIONS = ((sayings, "everybody", ("saying",)), (sayings, "somebody", ("saying",)))
+
+ALLOWED_BUILTINS = set("""len range enumerate zip min max sum abs sorted reversed int str bool bytes list tuple dict set
+    isinstance ord repr any all divmod pow getattr hasattr setattr iter next map property staticmethod classmethod super
+    Exception ValueError TypeError KeyError IndexError LookupError ZeroDivisionError ArithmeticError OverflowError
+    RuntimeError NotImplementedError AttributeError StopIteration NotImplemented""".split())
+ALLOWED_METHODS = set("""append clear copy count endswith extend find get index insert isalnum isalpha isdigit islower
+    isspace isupper items join keys ljust lower lstrip partition pop remove replace reverse rfind rjust rpartition
+    rsplit rstrip setdefault split splitlines startswith strip update upper values zfill bit_length""".split())
+ALLOWED_DUNDERS = set("""__init__ __eq__ __repr__ __str__ __len__ __enter__ __exit__ __call__ __iter__ __lt__ __le__
+    __gt__ __ge__ __add__ __sub__ __mul__ __rmul__ __and__ __or__ __xor__ __iadd__ __invert__ __bool__ __contains__
+    __getitem__""".split())
+ALLOWED_LIBRARY = {"math": ("gcd", "lcm", "isqrt", "comb", "perm", "factorial"),
+                   "itertools": ("product", "combinations", "permutations")}
+BARRED_NODES = (ast.Global, ast.AsyncFunctionDef, ast.Await, ast.Div, ast.AnnAssign, ast.MatMult, ast.SetComp)
+
+
+def nodes(*kinds):
+    return [(path, node) for path, tree in TREES.items() for node in ast.walk(tree) if isinstance(node, kinds)]
+
+
+def own_methods():
+    return {part.name for _, node in nodes(ast.ClassDef) for part in node.body if isinstance(part, ast.FunctionDef)}
+
+
+class Interface(unittest.TestCase):
+    def test_classes(self):
+        for module, name, parameters, methods in CLASSES:
+            kind = vars(module)[name]
+            self.assertTrue(inspect.isclass(kind))
+            self.assertEqual(kind.__module__, module.__name__)
+            if parameters is not None:
+                self.assertIn("__init__", vars(kind), name)
+                self.assertEqual(tuple(inspect.signature(kind).parameters), parameters, name)
+            for method, names in methods.items():
+                self.assertIn(method, vars(kind), (name, method))
+                if names is not None:
+                    made = vars(kind)[method]
+                    made = getattr(made, "__func__", getattr(made, "fget", made))
+                    self.assertEqual(tuple(inspect.signature(made).parameters), names, (name, method))
+
+    def test_functions(self):
+        for module, name, parameters in FUNCTIONS:
+            function = vars(module)[name]
+            self.assertTrue(inspect.isfunction(function))
+            self.assertEqual(function.__module__, module.__name__)
+            self.assertEqual(tuple(inspect.signature(function).parameters), parameters)
+
+    def test_package_is_empty(self):
+        tree = TREES[PACKAGE / "__init__.py"]
+        self.assertEqual(len(tree.body), 1)
+        self.assertIsNotNone(ast.get_docstring(tree))
+
+
+class Form(unittest.TestCase):
+    def test_files(self):
+        for path in FILES:
+            self.assertEqual(path.suffix, ".py")
+            text = path.read_text(encoding="ascii")
+            self.assertTrue(all(char == "\n" or " " <= char <= "~" for char in text), path)
+            self.assertLessEqual(len(text.splitlines()), 399, path)
+            self.assertLessEqual(max(len(line) for line in text.splitlines()), 120, path)
+
+    def test_functions_are_short(self):
+        for path, node in nodes(ast.FunctionDef):
+            self.assertLessEqual(node.end_lineno - node.lineno + 1, 40, (path, node.name))
+
+    def test_nodes(self):
+        self.assertEqual(nodes(*BARRED_NODES), [])
+        for path, node in nodes(ast.Compare):
+            for sign, part in zip(node.ops, node.comparators):
+                if isinstance(sign, (ast.Is, ast.IsNot)):
+                    self.assertIsInstance(part, ast.Constant, (path, node.lineno))
+
+    def test_strings(self):
+        for path, node in nodes(ast.Constant):
+            if isinstance(node.value, str):
+                self.assertNotIn("%", node.value, (path, node.lineno))
+            self.assertNotIsInstance(node.value, (float, complex), (path, node.lineno))
+
+    def test_annotations(self):
+        for path, node in nodes(ast.FunctionDef):
+            self.assertIsNone(node.returns, (path, node.name))
+            for part in node.args.args + node.args.kwonlyargs:
+                self.assertIsNone(part.annotation, (path, node.name))
+
+    def test_module_level(self):
+        for path, tree in TREES.items():
+            for node in tree.body[1:]:
+                self.assertIsInstance(node, (ast.ImportFrom, ast.FunctionDef, ast.ClassDef, ast.Assign), path)
+            self.assertIsNotNone(ast.get_docstring(tree), path)
+
+    def test_imports(self):
+        self.assertEqual(nodes(ast.Import), [])
+        for path, node in nodes(ast.ImportFrom):
+            if node.module in ALLOWED_LIBRARY:
+                self.assertTrue({part.name for part in node.names} <= set(ALLOWED_LIBRARY[node.module]), path)
+                continue
+            self.assertRegex(node.module, r"^foreheads\.[a-z]+$")
+            source = TREES[PACKAGE / (node.module.split(".")[1] + ".py")]
+            defined = {part.name for part in source.body if isinstance(part, (ast.ClassDef, ast.FunctionDef))}
+            for part in node.names:
+                self.assertIn(part.name, defined, path)
+                self.assertIsNone(part.asname, path)
+        for path, tree in TREES.items():
+            used = {node.id for node in ast.walk(tree) if isinstance(node, ast.Name)}
+            for node in ast.walk(tree):
+                if isinstance(node, ast.ImportFrom):
+                    self.assertTrue({part.name for part in node.names} <= used, path)
+
+    def test_builtins(self):
+        for path, node in nodes(ast.Name):
+            if node.id in vars(builtins):
+                self.assertIn(node.id, ALLOWED_BUILTINS, (path, node.lineno))
+                self.assertIsInstance(node.ctx, ast.Load, (path, node.lineno))
+        for path, node in nodes(ast.arg):
+            self.assertNotIn(node.arg, vars(builtins), (path, node.lineno))
+
+    def test_methods(self):
+        for path, node in nodes(ast.Call):
+            if isinstance(node.func, ast.Attribute):
+                self.assertIn(node.func.attr, ALLOWED_METHODS | own_methods(), (path, node.lineno))
+        for name in own_methods():
+            if name.startswith("__"):
+                self.assertIn(name, ALLOWED_DUNDERS)
+
+    def test_decorators(self):
+        for path, node in nodes(ast.FunctionDef, ast.ClassDef):
+            for part in node.decorator_list:
+                self.assertIsInstance(part, ast.Name, (path, node.name))
+                self.assertIn(part.id, ("property", "staticmethod", "classmethod"))
+                self.assertIsInstance(node, ast.FunctionDef)
+
+
+if __name__ == "__main__":
+    unittest.main()
