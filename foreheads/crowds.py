@@ -160,6 +160,17 @@ class Crowds:
         return f"[{_spaced(self.starts)} {_spaced(self.periods)}: {_spaced(self.rows)}]"
 
 
+def joined_bits(sign, ones, others):
+    """The bits of two sets that are joined by a sign; each bit tells whether something is in the set."""
+    if sign == "&":
+        return ones & others
+    if sign == "|":
+        return ones | others
+    if sign == "^":
+        return ones ^ others
+    return ones & ~others
+
+
 def _are_two_from(lowest, values):
     """Whether any value is a list or tuple of two integers that are not below the lowest one."""
     if not is_sequence(values) or len(values) != 2:

@@ -32,7 +32,7 @@ class Saying:
         return _are_alike(self, other)
 
     def __str__(self):
-        return "".join(_strings(self))
+        return "".join(strings_of(self))
 
 
 class AtLeast(Saying):
@@ -69,7 +69,7 @@ class AtLeast(Saying):
         return _are_alike(self, other)
 
     def __str__(self):
-        return "".join(_strings(self))
+        return "".join(strings_of(self))
 
 
 class Rest(Saying):
@@ -110,7 +110,7 @@ class Rest(Saying):
         return _are_alike(self, other)
 
     def __str__(self):
-        return "".join(_strings(self))
+        return "".join(strings_of(self))
 
 
 class Fact(Saying):
@@ -145,7 +145,7 @@ class Fact(Saying):
         return _are_alike(self, other)
 
     def __str__(self):
-        return "".join(_strings(self))
+        return "".join(strings_of(self))
 
 
 class Sure(Saying):
@@ -179,7 +179,7 @@ class Sure(Saying):
         return _are_alike(self, other)
 
     def __str__(self):
-        return "".join(_strings(self))
+        return "".join(strings_of(self))
 
 
 class Silent(Saying):
@@ -211,7 +211,7 @@ class Silent(Saying):
         return _are_alike(self, other)
 
     def __str__(self):
-        return "".join(_strings(self))
+        return "".join(strings_of(self))
 
 
 class Knows(Saying):
@@ -247,7 +247,7 @@ class Knows(Saying):
         return _are_alike(self, other)
 
     def __str__(self):
-        return "".join(_strings(self))
+        return "".join(strings_of(self))
 
 
 class Common(Saying):
@@ -281,7 +281,7 @@ class Common(Saying):
         return _are_alike(self, other)
 
     def __str__(self):
-        return "".join(_strings(self))
+        return "".join(strings_of(self))
 
 
 class Not(Saying):
@@ -339,7 +339,7 @@ def _are_alike(saying, other):
     return isinstance(other, Saying) and str(saying) == str(other)
 
 
-def _strings(saying):
+def strings_of(saying):
     """The strings that make up the text of a saying, in their order."""
     found = []
     # A stack of its own, as sayings may be nested deeper than calls can be.

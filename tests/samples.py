@@ -1,7 +1,9 @@
 """Values that several tests pass: any values of DOC.md [1], and what of them is a number."""
 
 from foreheads.crowds import Crowds
+from foreheads.lines import Line
 from foreheads.sayings import AtLeast, Common, Knows, Silent
+from foreheads.talks import Ask, If, Say, Step, Talk, Times
 
 
 def nested(depth):
@@ -19,6 +21,8 @@ def any_values():
         "", "marked", "plain", "Marked", "marked ", "1", "+", "-", "+-", "silent", "[0 0 1 1: +]",
         Crowds.every(), Crowds.nothing(), Crowds.of([(1, 2)]),
         AtLeast("marked", 1), Silent(), Common(Knows("plain", Silent())), ~Silent(),
+        Line(0), Line(2, [0, 1]), Say(Silent()), Step(), If(Silent(), [Step()], [Ask(Silent())]), Times(2, []),
+        Talk(), Talk([Step()]), [Step()], (Say(Silent()), Times(1, [Step()])), [Step(), 1], [[Step()]], [Talk()],
         [], (), [0], (0,), [0, 1], (0, 1), (1, 1), [1, 1], (1, 0), (0, -1), (-1, 0), (True, 1), (1, False),
         (1, None), ("1", "2"), (0, 1, 2), [0, 1, 2], (1, (1,)), ["+"], ["+", "-"], ("marked",), ["marked"],
         [(1, 2)], ((1, 2), (3, 4)), [(1, 2), [3, 4]], [[1, 2]], [Crowds.every()], (Silent(), Silent()),

@@ -7,7 +7,7 @@ import pathlib
 import unittest
 
 import foreheads
-from foreheads import crowds, errors, sayings
+from foreheads import crowds, errors, lines, runs, sayings, sayingtexts, talks
 
 PACKAGE = pathlib.Path(foreheads.__file__).parent
 FILES = sorted(path for path in PACKAGE.iterdir() if path.name != "__pycache__")
@@ -29,8 +29,18 @@ CLASSES = (
         ("AtLeast", ("kind", "number")), ("Rest", ("kind", "rest", "period")), ("Fact", ("crowds",)),
         ("Sure", ("kind",)), ("Silent", ()), ("Knows", ("kind", "saying")), ("Common", ("saying",)),
         ("Saying", None))]
+    + [(lines, "Line", ("people", "goes", "edges"), {
+        "where": ("self", "saying"), "after": ("self", "talk"), "__eq__": None})]
+    + [(talks, name, parameters, {"__eq__": None, "__str__": None}) for name, parameters in (
+        ("Say", ("saying",)), ("Ask", ("saying",)), ("Hands", ("saying",)), ("Step", ()),
+        ("If", ("saying", "rows", "others")), ("Times", ("many", "rows")), ("Row", None))]
+    + [(talks, "Talk", ("rows",), {
+        "read": ("cls", "text"), "without": ("self", "at"), "__call__": ("self", "crowd"),
+        **{name: None for name in ("__len__", "__getitem__", "__add__", "__mul__", "__rmul__", "__eq__", "__str__")}})]
 )
-FUNCTIONS = ((sayings, "everybody", ("saying",)), (sayings, "somebody", ("saying",)))
+FUNCTIONS = ((sayings, "everybody", ("saying",)), (sayings, "somebody", ("saying",)),
+             (sayingtexts, "read_saying", ("text",)), (runs, "heard", ("talk", "crowd")),
+             (runs, "holds", ("talk", "crowd", "saying")))
 
 ALLOWED_BUILTINS = set("""len range enumerate zip min max sum abs sorted reversed int str bool bytes list tuple dict set
     isinstance ord repr any all divmod pow getattr hasattr setattr iter next map property staticmethod classmethod super
@@ -38,7 +48,8 @@ ALLOWED_BUILTINS = set("""len range enumerate zip min max sum abs sorted reverse
     RuntimeError NotImplementedError AttributeError StopIteration NotImplemented""".split())
 ALLOWED_METHODS = set("""append clear copy count endswith extend find get index insert isalnum isalpha isdigit islower
     isspace isupper items join keys ljust lower lstrip partition pop remove replace reverse rfind rjust rpartition
-    rsplit rstrip setdefault split splitlines startswith strip update upper values zfill bit_length""".split())
+    rsplit rstrip setdefault split splitlines startswith strip update upper values zfill bit_length
+    translate maketrans""".split())
 ALLOWED_DUNDERS = set("""__init__ __eq__ __repr__ __str__ __len__ __enter__ __exit__ __call__ __iter__ __lt__ __le__
     __gt__ __ge__ __add__ __sub__ __mul__ __rmul__ __and__ __or__ __xor__ __iadd__ __invert__ __bool__ __contains__
     __getitem__""".split())
@@ -155,6 +166,48 @@ class Form(unittest.TestCase):
         for name in own_methods():
             if name.startswith("__"):
                 self.assertIn(name, ALLOWED_DUNDERS)
+
+    def test_names_of_imports_and_classes_mean_nothing_else(self):
+        for path, tree in TREES.items():
+            names = {node.name for node in tree.body if isinstance(node, ast.ClassDef)}
+            names |= {part.name for node in tree.body if isinstance(node, ast.ImportFrom) for part in node.names}
+            bound = {node.id for node in ast.walk(tree) if isinstance(node, ast.Name) and isinstance(node.ctx, ast.Store)}
+            bound |= {node.arg for node in ast.walk(tree) if isinstance(node, ast.arg)}
+            self.assertEqual(names & bound, set(), path)
+
+    def test_names_of_properties_and_class_methods_mean_nothing_else(self):
+        made = nodes(ast.FunctionDef)
+        special = {node.name for _, node in made for part in node.decorator_list}
+        plain = [node.name for _, node in made if not node.decorator_list]
+        self.assertEqual(special & set(plain), set())
+        for path, node in nodes(ast.Attribute):
+            if isinstance(node.ctx, ast.Store):
+                self.assertNotIn(node.attr, special, (path, node.lineno))
+
+    def test_no_method_is_an_attribute_too(self):
+        stored = {node.attr for _, node in nodes(ast.Attribute) if isinstance(node.ctx, ast.Store)}
+        self.assertEqual(stored & own_methods(), set())
+
+    def test_stars_in_calls(self):
+        for path, node in nodes(ast.Call):
+            for part in node.args:
+                if isinstance(part, ast.Starred):
+                    self.assertIsInstance(part.value, (ast.Name, ast.Attribute), (path, node.lineno))
+
+    def test_what_is_caught(self):
+        for path, node in nodes(ast.ExceptHandler):
+            self.assertIn(node.type.id, vars(errors), (path, node.lineno))
+
+    def test_classes_with_an_index_are_not_iterated(self):
+        for path, node in nodes(ast.ClassDef):
+            methods = {part.name: part for part in node.body if isinstance(part, ast.FunctionDef)}
+            if "__getitem__" in methods:
+                self.assertIsInstance(methods["__iter__"].body[0], ast.Raise, (path, node.name))
+
+    def test_nothing_is_changed_in_place(self):
+        # Where a class has an in-place sign, what an operator runs may not use one at all.
+        for path, node in nodes(ast.AugAssign):
+            self.fail((path, node.lineno))
 
     def test_decorators(self):
         for path, node in nodes(ast.FunctionDef, ast.ClassDef):
