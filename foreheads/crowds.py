@@ -5,30 +5,16 @@ from math import lcm
 from foreheads.checks import is_crowd, is_integer, is_sequence
 from foreheads.errors import InvalidCrowds
 
-# The pairs of signs, of a crowd in one set and in another one, that put it into the joined set.
-IN_BOTH = ("++",)
-IN_EITHER = ("++", "+-", "-+")
-IN_FIRST = ("+-",)
-IN_ONE = ("+-", "-+")
-
-
 class Crowds:
     """A set of crowds; it keeps the least table that tells it."""
 
     def __init__(self, starts, periods, rows):
-        if not _are_two_from(0, starts):
-            raise InvalidCrowds("starts")
-        if not _are_two_from(1, periods):
-            raise InvalidCrowds("periods")
-        if not _are_rows(rows, starts[0] + periods[0], starts[1] + periods[1]):
-            raise InvalidCrowds("rows")
-        down, step_down = _least_round(rows, starts[0])
-        kept = rows[:down + step_down]
-        columns = ["".join(column) for column in zip(*kept)]
-        across, step_across = _least_round(columns, starts[1])
-        self.starts = (down, across)
-        self.periods = (step_down, step_across)
-        self.rows = tuple([row[:across + step_across] for row in kept])
+        if not isinstance(rows, Least):
+            _check_table(starts, periods, rows)
+            starts, periods, rows = _least_table(starts, periods, rows, {row: row for row in rows})
+        self.starts = starts
+        self.periods = periods
+        self.rows = rows.rows
 
     @classmethod
     def nothing(cls):
@@ -93,53 +79,61 @@ class Crowds:
         """The crowds that become one of this set if somebody of the kind has the other kind."""
         down, across = self.starts
         if kind == "marked":
-            rows = ["-" * len(self.rows[0])] + [row[1:] + row[across] for row in self.rows]
-            return Crowds((down + 1, across), self.periods, rows)
-        rows = ["-" + row for row in self.rows[1:] + self.rows[down:down + 1]]
-        return Crowds((down, across + 1), self.periods, rows)
+            starts = (down + 1, across)
+            rows = {row: row[1:] + row[across] for row in self.rows}
+            # No row of the table is empty: this one is put ahead of all.
+            rows[""] = "-" * len(self.rows[0])
+            order = ("",) + self.rows
+        else:
+            starts = (down, across + 1)
+            order = self.rows[1:] + self.rows[down:down + 1]
+            rows = {row: "-" + row for row in order}
+        table = _least_table(starts, self.periods, order, rows)
+        return Crowds(*table)
 
     def __and__(self, other):
         if not isinstance(other, Crowds):
             return NotImplemented
-        return _joined(self, other, IN_BOTH)
+        return _joined("&", self, other)
 
     def __or__(self, other):
         if not isinstance(other, Crowds):
             return NotImplemented
-        return _joined(self, other, IN_EITHER)
+        return _joined("|", self, other)
 
     def __sub__(self, other):
         if not isinstance(other, Crowds):
             return NotImplemented
-        return _joined(self, other, IN_FIRST)
+        return _joined("-", self, other)
 
     def __xor__(self, other):
         if not isinstance(other, Crowds):
             return NotImplemented
-        return _joined(self, other, IN_ONE)
+        return _joined("^", self, other)
 
     def __invert__(self):
-        return Crowds(self.starts, self.periods, [_turned(row) for row in self.rows])
+        turned = " ".join(self.rows).translate(str.maketrans("+-", "-+"))
+        return Crowds(self.starts, self.periods, Least(turned.split(" ")))
 
     def __le__(self, other):
         if not isinstance(other, Crowds):
             return NotImplemented
-        return not bool(self - other)
+        return _is_within(self, other)
 
     def __lt__(self, other):
         if not isinstance(other, Crowds):
             return NotImplemented
-        return self <= other and self != other
+        return _is_within(self, other) and self != other
 
     def __ge__(self, other):
         if not isinstance(other, Crowds):
             return NotImplemented
-        return not bool(other - self)
+        return _is_within(other, self)
 
     def __gt__(self, other):
         if not isinstance(other, Crowds):
             return NotImplemented
-        return other <= self and self != other
+        return _is_within(other, self) and self != other
 
     def __eq__(self, other):
         if not isinstance(other, Crowds):
@@ -160,6 +154,28 @@ class Crowds:
         return f"[{_spaced(self.starts)} {_spaced(self.periods)}: {_spaced(self.rows)}]"
 
 
+class Least:
+    """The rows of a table that is known to be the least one, so that nothing of it need be looked through again."""
+
+    def __init__(self, rows):
+        self.rows = tuple(rows)
+
+
+class Overlay:
+    """The tables of two sets, brought to one size and laid upon one another."""
+
+    def __init__(self, one, other):
+        self.starts = tuple([max(int(a), int(b)) for a, b in zip(one.starts, other.starts)])
+        self.periods = tuple([lcm(a, b) for a, b in zip(one.periods, other.periods)])
+        height = self.starts[0] + self.periods[0]
+        self.width = self.starts[1] + self.periods[1]
+        # Rows are seldom all different: only the pairs that are, are made longer and looked at sign by sign.
+        self.order = list(zip(_longer(one.rows, one.starts[0], height), _longer(other.rows, other.starts[0], height)))
+        self.pairs = sorted(set(self.order))
+        self.ones = _bits([_longer(row, one.starts[1], self.width) for row, _ in self.pairs])
+        self.others = _bits([_longer(row, other.starts[1], self.width) for _, row in self.pairs])
+
+
 def joined_bits(sign, ones, others):
     """The bits of two sets that are joined by a sign; each bit tells whether something is in the set."""
     if sign == "&":
@@ -169,6 +185,57 @@ def joined_bits(sign, ones, others):
     if sign == "^":
         return ones ^ others
     return ones & ~others
+
+
+def _joined(sign, one, other):
+    """The set that a sign makes of two sets."""
+    overlay = Overlay(one, other)
+    bits = joined_bits(sign, overlay.ones, overlay.others)
+    width = overlay.width
+    signs = f"{bits:b}".zfill(width * len(overlay.pairs)).translate(str.maketrans("10", "+-"))
+    rows = {pair: signs[at * width:at * width + width] for at, pair in enumerate(overlay.pairs)}
+    table = _least_table(overlay.starts, overlay.periods, overlay.order, rows)
+    return Crowds(*table)
+
+
+def _is_within(one, other):
+    """Whether each crowd of a set is in another one."""
+    overlay = Overlay(one, other)
+    return joined_bits("-", overlay.ones, overlay.others) == 0
+
+
+def _bits(rows):
+    """The signs of all rows as one integer: the last sign is the bit of one."""
+    return int("".join(rows).translate(str.maketrans("+-", "10")), 2)
+
+
+def _longer(parts, start, many):
+    """The first ones of parts that go round from the start on."""
+    if len(parts) == many:
+        return parts
+    turn = parts[start:]
+    return (parts + turn * (many // len(turn)))[:many]
+
+
+def _least_table(starts, periods, order, rows):
+    """The arguments for the set of a table; the order tells each row by its key among the different rows."""
+    width = starts[1] + periods[1]
+    signs = "".join(rows.values())
+    across, step_across = _least_round([signs[at::width] for at in range(width)], starts[1])
+    kept = {key: row[:across + step_across] for key, row in rows.items()}
+    found = [kept[key] for key in order]
+    down, step_down = _least_round(found, starts[0])
+    return (down, across), (step_down, step_across), Least(found[:down + step_down])
+
+
+def _check_table(starts, periods, rows):
+    """Raises InvalidCrowds unless any values are the starts, periods and rows of a table."""
+    if not _are_two_from(0, starts):
+        raise InvalidCrowds("starts")
+    if not _are_two_from(1, periods):
+        raise InvalidCrowds("periods")
+    if not _are_rows(rows, starts[0] + periods[0], starts[1] + periods[1]):
+        raise InvalidCrowds("rows")
 
 
 def _are_two_from(lowest, values):
@@ -182,11 +249,9 @@ def _are_rows(rows, height, width):
     """Whether any value is a list or tuple of so many strings of so many signs."""
     if not is_sequence(rows) or len(rows) != height:
         return False
-    return all([isinstance(row, str) and _are_signs(row, width) for row in rows])
-
-
-def _are_signs(row, width):
-    return len(row) == width and row.count("+") + row.count("-") == width
+    if not all([isinstance(row, str) and len(row) == width for row in rows]):
+        return False
+    return "".join(rows).strip("+-") == ""
 
 
 def _least_round(parts, start):
@@ -209,41 +274,11 @@ def _place(number, start, period):
 
 
 def _striped(kind, start, signs):
-    """The arguments for a set that hangs on the people of one kind alone."""
+    """The arguments for a set that hangs on the people of one kind alone; the signs have the least start and period."""
     period = len(signs) - start
     if kind == "marked":
-        return (start, 0), (period, 1), list(signs)
-    return (0, start), (1, period), [signs]
-
-
-def _joined(one, other, wanted):
-    """The set of the crowds whose signs in both sets make a pair that is wanted."""
-    starts = [max(int(a), int(b)) for a, b in zip(one.starts, other.starts)]
-    periods = [lcm(a, b) for a, b in zip(one.periods, other.periods)]
-    ones = _spread(one, starts, periods)
-    others = _spread(other, starts, periods)
-    return Crowds(starts, periods, [_joined_row(row, against, wanted) for row, against in zip(ones, others)])
-
-
-def _joined_row(row, against, wanted):
-    return "".join(["+" if a + b in wanted else "-" for a, b in zip(row, against)])
-
-
-def _turned(row):
-    return "".join(["-" if sign == "+" else "+" for sign in row])
-
-
-def _spread(crowds, starts, periods):
-    """The rows of a table of the set with greater starts and multiples of the periods."""
-    down = _places(crowds, 0, starts[0] + periods[0])
-    across = _places(crowds, 1, starts[1] + periods[1])
-    wide = ["".join([row[at] for at in across]) for row in crowds.rows]
-    return [wide[at] for at in down]
-
-
-def _places(crowds, side, many):
-    """The rows (side 0) or columns (side 1) that tell of the first numbers."""
-    return [_place(at, crowds.starts[side], crowds.periods[side]) for at in range(many)]
+        return (start, 0), (period, 1), Least(signs)
+    return (0, start), (1, period), Least((signs,))
 
 
 def _spaced(parts):

@@ -330,6 +330,49 @@ class Signs(unittest.TestCase):
                 self.assertIs(crowd in other, crowd not in crowds)
             self.assertEqual(~other, crowds)
 
+    def check_least(self, crowds):
+        """By the second way: all starts and periods are tried."""
+        self.assertEqual(table_of(crowds), least_table(*table_of(crowds)))
+        for value in table_of(crowds):
+            self.assertIs(type(value), tuple)
+        for row in crowds.rows:
+            self.assertIs(type(row), str)
+
+    def test_tables_of_results_are_the_least(self):
+        sets = in_some_sets()
+        for one, other in itertools.product(sets[::2], sets[1::2]):
+            for sign, _, _ in self.OPERATORS:
+                self.check_least(sign(one, other))
+            self.check_least((one - other) | (one & other))
+        for crowds in sets:
+            for result in (~crowds, crowds.beside("marked"), crowds.beside("plain"), crowds ^ crowds, crowds | ~crowds):
+                self.check_least(result)
+        for kind, number in itertools.product(KINDS, (0, 1, 2, 20)):
+            self.check_least(Crowds.at_least(kind, number))
+            self.check_least(~Crowds.at_least(kind, number).beside(kind))
+            for period in (1, 2, 6, 12):
+                self.check_least(Crowds.leaving(kind, number, period))
+
+    def test_far_starts(self):
+        rows = ["".join("+" if (k * 7 + l * 5 + k * l) % 3 == 0 else "-" for l in range(14)) for k in range(14)]
+        near, chance = Crowds((8, 8), (6, 6), rows), random.Random(4)
+        for far in (Crowds.at_least("marked", 149), Crowds.at_least("plain", 150),
+                    Crowds.at_least("marked", 150) ^ Crowds.at_least("plain", 149)):
+            for sign, _, wanted in self.OPERATORS:
+                for one, other in ((near, far), (far, near), (far, far), (far, far.beside("plain"))):
+                    result = sign(one, other)
+                    for _ in range(60):
+                        crowd = (chance.choice((3, 9, 148, 149, 150, 151, 10 ** 30)), chance.randint(0, 160))
+                        self.assertIs(crowd in result, wanted(crowd in one, crowd in other))
+                        self.assertIs(crowd[::-1] in result, wanted(crowd[::-1] in one, crowd[::-1] in other))
+            self.assertTrue(near & far < near < near | far)
+            self.assertFalse(near <= far or near >= far or far <= near)
+        self.assertTrue(Crowds.at_least("marked", 150) < Crowds.at_least("marked", 149))
+        self.assertFalse(Crowds.at_least("plain", 149) <= Crowds.at_least("plain", 150))
+        self.assertEqual(Crowds.at_least("marked", 149) - Crowds.at_least("marked", 150),
+                         Crowds.at_least("marked", 149) & ~Crowds.at_least("marked", 150))
+        self.assertEqual(table_of(Crowds.at_least("plain", 150)), ((0, 150), (1, 1), ("-" * 150 + "+",)))
+
     def test_two_periods(self):
         both = Crowds.leaving("marked", 1, 4) & Crowds.leaving("marked", 2, 3)
         self.assertEqual(both, Crowds.leaving("marked", 5, 12))
