@@ -5,6 +5,7 @@ from math import lcm
 from foreheads.checks import is_crowd, is_integer, is_sequence
 from foreheads.errors import InvalidCrowds
 
+
 class Crowds:
     """A set of crowds; it keeps the least table that tells it."""
 

@@ -2,10 +2,10 @@
 
 from foreheads.crowds import Crowds
 
-from worlds import Said, lines_in
+from worlds import Held
 
 
-class Stand:
+class Stand(Held):
     """The crowds in which a talk goes on, and the open edges."""
 
     def __init__(self, people, goes=None, edges=None):
@@ -69,7 +69,8 @@ class Stand:
     def told(self):
         return self.people, tuple(sorted(self.goes)), tuple(sorted(self.edges))
 
-    def only(self, goes):
+    def part(self, term, answer):
+        goes = {k for k in self.goes if self.holds(term, k) == answer}
         return Stand(self.people, goes, [k for k in self.edges if k in goes and k - 1 in goes])
 
     def stays(self, term, k):
@@ -81,51 +82,18 @@ class Stand:
     def after_row(self, term):
         head = term[0]
         if head == "times":
-            found = self
-            for _ in range(term[1]):
-                found = found.after(term[2])
-            return found
+            return self.after(term[2] * term[1])
         if head == "step":
             return Stand(self.people, self.goes, [
                 k for k in self.edges if self.holds(("silent",), k) and self.holds(("silent",), k - 1)])
         if head == "hands":
             return Stand(self.people, self.goes, [k for k in self.edges if self.stays(term, k)])
-        so = {k for k in self.goes if self.holds(term[1], k)}
+        one, other = self.part(term[1], True), self.part(term[1], False)
         if head == "say":
-            return self.only(so)
-        one, other = self.only(so), self.only(self.goes - so)
+            return one
         if head == "if":
             one, other = one.after(term[2]), other.after(term[3])
         return Stand(self.people, one.goes | other.goes, one.edges | other.edges)
-
-    def after(self, terms):
-        found = self
-        for term in terms:
-            found = found.after_row(term)
-        return found
-
-    def heard(self, terms, k, at=0):
-        """What is heard in a crowd, in pairs, and how things stand behind it."""
-        found, now = [], self
-        for term in terms:
-            if term[0] == "times":
-                for _ in range(term[1]):
-                    more, now = now.heard(term[2], k, at + 1)
-                    found += more
-            else:
-                answer = now.answer(term, k)
-                if term[0] == "say" and not answer:
-                    raise Said(at)
-                found.append((at, answer))
-                if term[0] == "if":
-                    now = now.only({other for other in now.goes if now.holds(term[1], other) == answer})
-                    begin = at + 1 if answer else at + 1 + lines_in(term[2])
-                    more, now = now.heard(term[2] if answer else term[3], k, begin)
-                    found += more
-                else:
-                    now = now.after_row(term)
-            at += lines_in([term])
-        return found, now
 
     def answer(self, term, k):
         if term[0] == "step":

@@ -8,12 +8,46 @@ import itertools
 
 from foreheads.crowds import Crowds
 
+from terms import numbered
+
 
 class Said(Exception):
     """Something is said that does not hold."""
 
 
-class Worlds:
+class Held:
+    """How things stand. A class below tells what stays behind a row, and the answers to rows in a world or crowd."""
+
+    def after(self, terms):
+        found = self
+        for term in terms:
+            found = found.after_row(term)
+        return found
+
+    def heard(self, terms, place, at=0):
+        """What is heard at a place, in pairs, and how things stand behind it."""
+        found, now = [], self
+        for term in terms:
+            if term[0] == "times":
+                for _ in range(term[1]):
+                    more, now = now.heard(term[2], place, at + 1)
+                    found += more
+            else:
+                answer = now.answer(term, place)
+                if term[0] == "say" and not answer:
+                    raise Said(at)
+                found.append((at, answer))
+                if term[0] == "if":
+                    begin = at + 1 if answer else at + 1 + len(numbered(term[2]))
+                    more, now = now.part(term[1], answer).heard(term[2] if answer else term[3], place, begin)
+                    found += more
+                else:
+                    now = now.after_row(term)
+            at += len(numbered([term]))
+        return found, now
+
+
+class Worlds(Held):
     """Worlds (sets of marked people), and for each person and world those that the person holds possible."""
 
     def __init__(self, people, worlds, possible):
@@ -88,27 +122,17 @@ class Worlds:
 
     def after_row(self, term):
         if term[0] == "times":
-            found = self
-            for _ in range(term[1]):
-                found = found.after(term[2])
-            return found
+            return self.after(term[2] * term[1])
         if term[0] in ("hands", "step"):
             done = {(person, world): self.does(term, person, world)
                     for person in range(self.people) for world in self.worlds}
             return self.seeing(lambda me, world: [done[person, world] for person in range(self.people) if person != me])
-        so = [world for world in self.worlds if self.holds(term[1], world)]
+        one, other = self.part(term[1], True), self.part(term[1], False)
         if term[0] == "say":
-            return self.only(so)
-        not_so = [world for world in self.worlds if world not in so]
+            return one
         if term[0] == "ask":
-            return self.only(so).joined(self.only(not_so))
-        return self.only(so).after(term[2]).joined(self.only(not_so).after(term[3]))
-
-    def after(self, terms):
-        found = self
-        for term in terms:
-            found = found.after_row(term)
-        return found
+            return one.joined(other)
+        return one.after(term[2]).joined(other.after(term[3]))
 
     def where(self, term):
         """The numbers of marked people of the worlds in which a saying holds."""
@@ -132,28 +156,9 @@ class Worlds:
         assert not open_edges & closed
         return self.told(self.worlds), tuple(sorted(open_edges))
 
-    def heard(self, terms, world, at=0):
-        """What is heard in a world, in pairs, and how things stand behind it."""
-        found, now = [], self
-        for term in terms:
-            if term[0] == "times":
-                for _ in range(term[1]):
-                    more, now = now.heard(term[2], world, at + 1)
-                    found += more
-            else:
-                answer = now.answer(term, world)
-                if term[0] == "say" and not answer:
-                    raise Said(at)
-                found.append((at, answer))
-                if term[0] == "if":
-                    now = now.only([other for other in now.worlds if now.holds(term[1], other) == answer])
-                    begin = at + 1 if answer else at + 1 + lines_in(term[2])
-                    more, now = now.heard(term[2] if answer else term[3], world, begin)
-                    found += more
-                else:
-                    now = now.after_row(term)
-            at += lines_in([term])
-        return found, now
+    def part(self, term, answer):
+        """What stays if all hear whether a saying holds, where this is the answer."""
+        return self.only([world for world in self.worlds if self.holds(term, world) == answer])
 
     def answer(self, term, world):
         if term[0] in ("hands", "step"):
@@ -164,18 +169,6 @@ class Worlds:
                 pair.append(answers.pop() if answers else None)
             return tuple(pair)
         return self.holds(term[1], world)
-
-
-def lines_in(terms):
-    """The number of rows, with those in blocks."""
-    many = 0
-    for term in terms:
-        many += 1
-        if term[0] == "times":
-            many += lines_in(term[2])
-        if term[0] == "if":
-            many += lines_in(term[2]) + lines_in(term[3])
-    return many
 
 
 def worlds_of(people, goes=None, edges=None):
