@@ -10,12 +10,12 @@ class Crowds:
     """A set of crowds; it keeps the least table that tells it."""
 
     def __init__(self, starts, periods, rows):
-        if not isinstance(rows, Least):
-            _check_table(starts, periods, rows)
+        _check_table(starts, periods, rows)
+        if len(rows) > 1 or len(rows[0]) > 1:
             starts, periods, rows = _least_table(starts, periods, rows, {row: row for row in rows})
-        self.starts = starts
-        self.periods = periods
-        self.rows = rows.rows
+        self.starts = tuple(starts)
+        self.periods = tuple(periods)
+        self.rows = tuple(rows)
 
     @classmethod
     def nothing(cls):
@@ -42,15 +42,13 @@ class Crowds:
     @classmethod
     def at_least(cls, kind, number):
         """The set of the crowds with at least so many people of the kind."""
-        starts, periods, rows = _striped(kind, number, "-" * number + "+")
-        return cls(starts, periods, rows)
+        return _striped(kind, number, "-" * number + "+")
 
     @classmethod
     def leaving(cls, kind, rest, period):
         """The set of the crowds whose number of people of the kind leaves the rest."""
         signs = ["+" if (at - rest) % period == 0 else "-" for at in range(period)]
-        starts, periods, rows = _striped(kind, 0, "".join(signs))
-        return cls(starts, periods, rows)
+        return _striped(kind, 0, "".join(signs))
 
     @property
     def least(self):
@@ -90,7 +88,7 @@ class Crowds:
             order = self.rows[1:] + self.rows[down:down + 1]
             rows = {row: "-" + row for row in order}
         table = _least_table(starts, self.periods, order, rows)
-        return Crowds(*table)
+        return _told_by(*table)
 
     def __and__(self, other):
         if not isinstance(other, Crowds):
@@ -114,7 +112,7 @@ class Crowds:
 
     def __invert__(self):
         turned = " ".join(self.rows).translate(str.maketrans("+-", "-+"))
-        return Crowds(self.starts, self.periods, Least(turned.split(" ")))
+        return _told_by(self.starts, self.periods, tuple(turned.split(" ")))
 
     def __le__(self, other):
         if not isinstance(other, Crowds):
@@ -155,13 +153,6 @@ class Crowds:
         return f"[{_spaced(self.starts)} {_spaced(self.periods)}: {_spaced(self.rows)}]"
 
 
-class Least:
-    """The rows of a table that is known to be the least one, so that nothing of it need be looked through again."""
-
-    def __init__(self, rows):
-        self.rows = tuple(rows)
-
-
 class Overlay:
     """The tables of two sets, brought to one size and laid upon one another."""
 
@@ -196,7 +187,7 @@ def _joined(sign, one, other):
     signs = f"{bits:b}".zfill(width * len(overlay.pairs)).translate(str.maketrans("10", "+-"))
     rows = {pair: signs[at * width:at * width + width] for at, pair in enumerate(overlay.pairs)}
     table = _least_table(overlay.starts, overlay.periods, overlay.order, rows)
-    return Crowds(*table)
+    return _told_by(*table)
 
 
 def _is_within(one, other):
@@ -219,14 +210,24 @@ def _longer(parts, start, many):
 
 
 def _least_table(starts, periods, order, rows):
-    """The arguments for the set of a table; the order tells each row by its key among the different rows."""
+    """The least table of the set of a table; the order tells each row by its key among the different rows."""
     width = starts[1] + periods[1]
     signs = "".join(rows.values())
     across, step_across = _least_round([signs[at::width] for at in range(width)], starts[1])
     kept = {key: row[:across + step_across] for key, row in rows.items()}
     found = [kept[key] for key in order]
     down, step_down = _least_round(found, starts[0])
-    return (down, across), (step_down, step_across), Least(found[:down + step_down])
+    return (down, across), (step_down, step_across), tuple(found[:down + step_down])
+
+
+def _told_by(starts, periods, rows):
+    """The set whose least table this is known to be."""
+    # The constructor takes nothing on trust: what needs no second look is put in place of a table of one sign.
+    made = Crowds((0, 0), (1, 1), ("+",))
+    made.starts = starts
+    made.periods = periods
+    made.rows = rows
+    return made
 
 
 def _check_table(starts, periods, rows):
@@ -243,7 +244,8 @@ def _are_two_from(lowest, values):
     """Whether any value is a list or tuple of two integers that are not below the lowest one."""
     if not is_sequence(values) or len(values) != 2:
         return False
-    return all([is_integer(value) and value >= lowest for value in values])
+    first, second = values
+    return is_integer(first) and is_integer(second) and first >= lowest and second >= lowest
 
 
 def _are_rows(rows, height, width):
@@ -275,11 +277,11 @@ def _place(number, start, period):
 
 
 def _striped(kind, start, signs):
-    """The arguments for a set that hangs on the people of one kind alone; the signs have the least start and period."""
+    """A set that hangs on the people of one kind alone; the signs have the least start and period."""
     period = len(signs) - start
     if kind == "marked":
-        return (start, 0), (period, 1), Least(signs)
-    return (0, start), (1, period), Least((signs,))
+        return _told_by((start, 0), (period, 1), tuple(signs))
+    return _told_by((0, start), (1, period), (signs,))
 
 
 def _spaced(parts):

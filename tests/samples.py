@@ -1,5 +1,10 @@
 """Values that several tests pass: any values of DOC.md [1], and what of them is a number."""
 
+import importlib
+import inspect
+import pkgutil
+
+import foreheads
 from foreheads.crowds import Crowds
 from foreheads.lines import Line
 from foreheads.sayings import AtLeast, Common, Knows, Silent
@@ -28,6 +33,22 @@ def any_values():
         [(1, 2)], ((1, 2), (3, 4)), [(1, 2), [3, 4]], [[1, 2]], [Crowds.every()], (Silent(), Silent()),
         nested(2), nested(5), nested(8),
     ]
+
+
+def package_objects():
+    """An object of each class of the package that can be made of some simple arguments, also of those not described."""
+    found = []
+    lists = ((), (["x"],), (["-", "+"],), (("x",),), ("marked",), (1,), ((1, 2),), (Silent(),), ("marked", Silent()))
+    for part in pkgutil.iter_modules(foreheads.__path__):
+        module = importlib.import_module(f"foreheads.{part.name}")
+        for kind in vars(module).values():
+            if inspect.isclass(kind) and kind.__module__ == module.__name__:
+                for arguments in lists:
+                    try:
+                        found.append(kind(*arguments))
+                    except Exception:
+                        pass
+    return found
 
 
 def is_integer(value):

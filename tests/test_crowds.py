@@ -8,7 +8,7 @@ import unittest
 from foreheads.crowds import Crowds
 from foreheads.errors import InvalidCrowds
 
-from samples import any_values, is_crowd, is_integer, is_number
+from samples import any_values, is_crowd, is_integer, is_number, package_objects
 
 KINDS = ("marked", "plain")
 
@@ -194,6 +194,15 @@ class WrongTables(unittest.TestCase):
             if not (isinstance(value, str) and value in ("+", "-")):
                 self.assertEqual(self.word((0, 0), (1, 1), [value]), "rows", value)
                 self.assertEqual(self.word((1, 0), (1, 1), ["+", value]), "rows", value)
+
+    def test_objects_of_any_class_of_the_package(self):
+        for value in package_objects():
+            self.assertEqual(self.word((0, 0), (1, 1), value), "rows", value)
+            self.assertEqual(self.word("x", None, value), "starts", value)
+            self.assertEqual(self.word((0, 0), (0, 1), value), "periods", value)
+            self.assertEqual(self.word(value, (1, 1), ["+"]), "starts", value)
+            self.assertEqual(self.word((0, 0), value, ["+"]), "periods", value)
+            self.assertEqual(self.word((0, 0), (1, 1), [value]), "rows", value)
 
     def test_numbers_of_rows_and_signs(self):
         good = ["+-+", "-+-"]
