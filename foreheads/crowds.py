@@ -143,8 +143,8 @@ class Crowds:
     def __contains__(self, x):
         if not is_crowd(x):
             return False
-        row = self.rows[_place(x[0], self.starts[0], self.periods[0])]
-        return row[_place(x[1], self.starts[1], self.periods[1])] == "+"
+        row = self.rows[place_of(x[0], self.starts[0], self.periods[0])]
+        return row[place_of(x[1], self.starts[1], self.periods[1])] == "+"
 
     def __bool__(self):
         return any(["+" in row for row in self.rows])
@@ -179,12 +179,28 @@ def joined_bits(sign, ones, others):
     return ones & ~others
 
 
+def bits_of(crowds, starts, periods):
+    """The crowds of a set by a table with these starts and periods, as an integer: the first sign is the lowest bit."""
+    width = starts[1] + periods[1]
+    rows = [_longer(row, crowds.starts[1], width) for row in crowds.rows]
+    return _bits(_longer(rows, crowds.starts[0], starts[0] + periods[0]))
+
+
+def crowds_of(bits, starts, periods):
+    """The set with these bits, by a table with these starts and periods."""
+    width = starts[1] + periods[1]
+    signs = _signs(bits, width * (starts[0] + periods[0]))
+    rows = [signs[at:at + width] for at in range(0, len(signs), width)]
+    table = _least_table(starts, periods, rows, {row: row for row in rows})
+    return _told_by(*table)
+
+
 def _joined(sign, one, other):
     """The set that a sign makes of two sets."""
     overlay = Overlay(one, other)
     bits = joined_bits(sign, overlay.ones, overlay.others)
     width = overlay.width
-    signs = f"{bits:b}".zfill(width * len(overlay.pairs)).translate(str.maketrans("10", "+-"))
+    signs = _signs(bits, width * len(overlay.pairs))
     rows = {pair: signs[at * width:at * width + width] for at, pair in enumerate(overlay.pairs)}
     table = _least_table(overlay.starts, overlay.periods, overlay.order, rows)
     return _told_by(*table)
@@ -197,8 +213,13 @@ def _is_within(one, other):
 
 
 def _bits(rows):
-    """The signs of all rows as one integer: the last sign is the bit of one."""
-    return int("".join(rows).translate(str.maketrans("+-", "10")), 2)
+    """The signs of all rows as one integer: the first sign is the lowest bit."""
+    return int("".join(rows)[::-1].translate(str.maketrans("+-", "10")), 2)
+
+
+def _signs(bits, many):
+    """So many signs with these bits."""
+    return f"{bits:b}".zfill(many)[::-1].translate(str.maketrans("10", "+-"))
 
 
 def _longer(parts, start, many):
@@ -269,7 +290,7 @@ def _least_round(parts, start):
     return start, step
 
 
-def _place(number, start, period):
+def place_of(number, start, period):
     """The row or column of a table that tells of a number of people."""
     if number < start:
         return number

@@ -1,9 +1,9 @@
 """Lines: how things stand in all crowds with one number of people."""
 
 from foreheads.checks import is_integer, is_number, is_sequence
-from foreheads.crowds import joined_bits
 from foreheads.errors import InvalidLine
-from foreheads.sayings import AtLeast, Common, Fact, Knows, Not, Pair, Silent, Sure
+from foreheads.sayings import AtLeast, Fact
+from foreheads.standing import Course, Standing
 
 
 class Line:
@@ -32,12 +32,12 @@ class Line:
 
     def after(self, talk):
         """The line behind a talk."""
-        standing = self.in_bits().after(talk.rows)
+        standing = Course().through(self.in_bits(), talk.rows, 0)
         return Line(self.people, _numbers(standing.goes), _numbers(standing.edges))
 
     def in_bits(self):
         """The same in bits."""
-        return Standing(self.people, _bits(self.goes), _bits(self.edges))
+        return Standing(Stretch(self.people, 0, self.people, 1), _bits(self.goes), _bits(self.edges))
 
     def __eq__(self, other):
         if not isinstance(other, Line):
@@ -45,110 +45,35 @@ class Line:
         return self.people == other.people and self.goes == other.goes and self.edges == other.edges
 
 
-class Standing:
-    """How things stand on a line, as a `Line` tells it, but each set of numbers is an integer with these bits."""
+class Stretch:
+    """The ground of the crowds of a line from a lowest to a highest one. Each crowd has `ways` bits side by side, one
+    for each way in which things stand, so that all these ways are looked at together."""
 
-    def __init__(self, people, goes, edges):
+    def __init__(self, people, lowest, highest, ways):
         self.people = people
-        self.goes = goes
-        self.edges = edges
-        self.whole = (1 << people + 1) - 1
-
-    def where(self, saying):
-        """The crowds in which a saying holds (whatever they are where the talk does not go on)."""
-        if isinstance(saying, Not):
-            return self.whole ^ self.where(saying.saying)
-        if isinstance(saying, Pair):
-            return joined_bits(saying.sign, self.where(saying.first), self.where(saying.second))
-        if isinstance(saying, Knows):
-            return self.where_known(saying.kind, self.where(saying.saying))
-        if isinstance(saying, Common):
-            return self.where_common(self.where(saying.saying))
-        if isinstance(saying, Sure):
-            return self.whole ^ self.doubts(saying.kind)
-        if isinstance(saying, Silent):
-            return self.where_silent()
-        if isinstance(saying, Fact):
-            return _bits(saying.crowds.marked_in(self.people))
-        counts = [marked if saying.kind == "marked" else self.people - marked for marked in range(self.people + 1)]
-        return _bits([marked for marked, many in enumerate(counts) if _fits(saying, many)])
+        self.lowest = lowest
+        self.highest = highest
+        self.ways = ways
+        self.each = (1 << ways) - 1
+        self.whole = (1 << (highest - lowest + 1) * ways) - 1
 
     def with_other_mark(self, kind, held):
         """The crowds in which somebody of the kind, by having the other kind, would make one of those held."""
-        return held << 1 & self.whole if kind == "marked" else held >> 1
+        return held << self.ways & self.whole if kind == "marked" else held >> self.ways
 
     def has(self, kind):
         """The crowds in which there is somebody of the kind."""
-        return self.with_other_mark(kind, self.whole)
+        if kind == "marked":
+            return self.whole & ~self.each if self.lowest == 0 else self.whole
+        return self.whole >> self.ways if self.highest == self.people else self.whole
 
-    def doubts(self, kind):
-        """The crowds in which there are people of the kind, and they do not know their own mark."""
-        return self.edges if kind == "marked" else self.edges >> 1
-
-    def where_known(self, kind, held):
-        """The crowds in which each person of the kind knows that it is one of those held."""
-        misled = self.doubts(kind) & ~self.with_other_mark(kind, held)
-        return self.whole & ~self.has(kind) | held & ~misled
-
-    def where_common(self, held):
-        """The crowds from which open edges lead to none but those held."""
-        left = self.whole ^ held
-        more = 0
-        while more != left:
-            more = left
-            left = left | left << 1 & self.edges | (left & self.edges) >> 1
-        return self.whole ^ left
-
-    def where_silent(self):
-        """The crowds in which nobody knows their own mark."""
-        marked = ~self.has("marked") | self.doubts("marked")
-        plain = ~self.has("plain") | self.doubts("plain")
-        return self.whole & marked & plain
-
-    def after(self, rows):
-        """How things stand behind rows that are done one after another."""
-        standing = self
-        for row in rows:
-            standing = standing.after_row(row)
-        return standing
-
-    def after_row(self, row):
-        """How things stand behind a row; rows are told by their heads, as their classes build on this module."""
-        if row.HEAD == "times":
-            return self.after(row.rows * row.many)
-        if row.HEAD == "step":
-            return self.after_step()
-        held = self.where(row.saying)
-        if row.HEAD == "say":
-            return self.part(held)
-        if row.HEAD == "ask":
-            return self.with_edges(~(held ^ held << 1))
-        if row.HEAD == "hands":
-            return self.after_hands(held)
-        there = self.part(held).after(row.rows)
-        elsewhere = self.part(~held).after(row.others)
-        return Standing(self.people, there.goes | elsewhere.goes, there.edges | elsewhere.edges)
-
-    def part(self, held):
-        """How things stand if the talk goes on in the crowds held alone."""
-        return Standing(self.people, self.goes & held, self.edges & _edges_between(held))
-
-    def with_edges(self, kept):
-        """How things stand if no edges but those kept stay open."""
-        return Standing(self.people, self.goes, self.edges & kept)
-
-    def after_step(self):
-        """How things stand when all who know their own mark have stepped forward."""
-        return self.with_edges(_edges_between(self.where_silent()))
-
-    def after_hands(self, held):
-        """How things stand when all who know that it is one of the crowds held have lifted a hand."""
-        # At an open edge the person who holds both ends possible knows it, or not, at either end. This person can tell
-        # the ends apart by the others who are marked, or by those who are plain, if they know at one end alone.
-        knowing = _edges_between(held)
-        marked = knowing ^ self.where_known("marked", held) << 1
-        plain = knowing ^ self.where_known("plain", held)
-        return self.with_edges(~(marked & self.has("marked") << 1 | plain & self.has("plain")))
+    def where_simple(self, saying):
+        """The crowds in which a simple saying holds."""
+        found = 0
+        for at in range(self.highest - self.lowest + 1):
+            if _fits(saying, self.lowest + at, self.people - self.lowest - at):
+                found = found | self.each << at * self.ways
+        return found
 
 
 def _are_from(values, lowest, highest):
@@ -176,8 +101,11 @@ def _numbers(bits):
     return tuple([number for number in range(bits.bit_length()) if bits >> number & 1])
 
 
-def _fits(saying, many):
-    """Whether a simple saying about the number of people of a kind holds for a number."""
+def _fits(saying, marked, plain):
+    """Whether a simple saying holds in a crowd."""
+    if isinstance(saying, Fact):
+        return (marked, plain) in saying.crowds
+    many = marked if saying.kind == "marked" else plain
     if isinstance(saying, AtLeast):
         return many >= saying.number
     return many % saying.period == saying.rest

@@ -7,14 +7,19 @@ from foreheads.sayings import Knows, Sure
 
 def heard(talk, crowd):
     """What is heard and seen in a crowd: pairs of the number of a row and the answer to it."""
-    run = Run(crowd)
-    run.do_rows(talk.rows, 0)
+    return heard_on(Line(crowd[0] + crowd[1]), talk.rows, crowd)
+
+
+def heard_on(line, rows, crowd):
+    """What is heard and seen of rows in a crowd, if its line stands so ahead of them."""
+    run = Run(line, crowd)
+    run.do_rows(rows, 0)
     return tuple(run.answers)
 
 
 def holds(talk, crowd, saying):
     """Whether a saying holds in a crowd behind the talk."""
-    run = Run(crowd)
+    run = Run(Line(crowd[0] + crowd[1]), crowd)
     run.do_rows(talk.rows, 0)
     return run.is_true(saying)
 
@@ -22,9 +27,9 @@ def holds(talk, crowd, saying):
 class Run:
     """A talk that is held in one crowd: the answers so far, and how things stand as far as they matter there."""
 
-    def __init__(self, crowd):
+    def __init__(self, line, crowd):
         self.marked, self.plain = crowd
-        self.standing = Line(self.marked + self.plain).in_bits()
+        self.standing = line.in_bits()
         self.answers = []
 
     def is_true(self, saying):
@@ -60,7 +65,7 @@ class Run:
             self.standing = self.standing.part(held)
             self.do_rows(row.rows, at + 1)
         else:
-            self.standing = self.standing.part(~held)
+            self.standing = self.standing.part(self.standing.all_but(held))
             self.do_rows(row.others, at + 1 + sum([part.span for part in row.rows]))
 
     def answer_to(self, row):

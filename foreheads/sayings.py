@@ -8,10 +8,14 @@ from foreheads.errors import InvalidSaying
 
 
 class Saying:
-    """The base class; each saying has a method `pieces`: the strings and sayings that make up its text."""
+    """The base class; each saying has methods `pieces`: the strings and sayings that make up its text, and `inner`: the
+    sayings of which it is made."""
 
     def __init__(self):
         raise TypeError("only its subclasses are made")
+
+    def inner(self):
+        return ()
 
     def __and__(self, other):
         return Pair("&", self, other)
@@ -228,6 +232,9 @@ class Knows(Saying):
     def pieces(self):
         return [f"knows {self.kind} (", self.saying, ")"]
 
+    def inner(self):
+        return (self.saying,)
+
     def __and__(self, other):
         return Pair("&", self, other)
 
@@ -262,6 +269,9 @@ class Common(Saying):
     def pieces(self):
         return ["common (", self.saying, ")"]
 
+    def inner(self):
+        return (self.saying,)
+
     def __and__(self, other):
         return Pair("&", self, other)
 
@@ -295,6 +305,9 @@ class Not(Saying):
     def pieces(self):
         return ["~(", self.saying, ")"]
 
+    def inner(self):
+        return (self.saying,)
+
 
 class Pair(Saying):
     """Two sayings joined by one of the signs `&`, `|`, `^` and `-`."""
@@ -310,6 +323,9 @@ class Pair(Saying):
 
     def pieces(self):
         return ["(", self.first, f") {self.sign} (", self.second, ")"]
+
+    def inner(self):
+        return (self.first, self.second)
 
 
 def everybody(saying):

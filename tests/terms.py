@@ -5,6 +5,7 @@ A saying is ("least", kind, number), ("rest", kind, rest, period), ("fact", star
 ("say", saying), ("ask", saying), ("hands", saying), ("step",), ("if", saying, rows, others) or ("times", many, rows).
 """
 
+import math
 import operator
 
 from foreheads.crowds import Crowds
@@ -188,3 +189,59 @@ def drawn_row(chance, blocks, layers=2, number=3):
 
 def drawn_rows(chance, blocks, many, layers=2, number=3):
     return tuple(drawn_row(chance, blocks, layers, number) for _ in range(many))
+
+
+def sayings_in(terms):
+    """The sayings of all rows, with those in blocks."""
+    return [term[1] for term in numbered(terms) if term[0] not in ("step", "times")]
+
+
+def common_period(term):
+    """The common multiple of all periods in a saying."""
+    if term[0] == "rest":
+        return term[3]
+    if term[0] == "fact":
+        return math.lcm(*term[2])
+    return math.lcm(*[common_period(part) for part in inner(term)])
+
+
+def rows_done(terms):
+    """How many rows are done at most in a crowd."""
+    many = 0
+    for term in terms:
+        if term[0] == "times":
+            many += 1 + term[1] * rows_done(term[2])
+        elif term[0] == "if":
+            many += 1 + max(rows_done(term[2]), rows_done(term[3]))
+        else:
+            many += 1
+    return many
+
+
+def commons_met(terms):
+    """How often `Common` is met; both ways of an `If` count."""
+    many = 0
+    for term in terms:
+        if term[0] == "times":
+            many += term[1] * commons_met(term[2])
+        elif term[0] != "step":
+            many += commons_of(term[1]) + (commons_met(term[2]) + commons_met(term[3]) if term[0] == "if" else 0)
+    return many
+
+
+def is_question(terms, sayings=()):
+    """Whether a talk, with the sayings passed beside, is within the limits of [3]."""
+    everything = sayings_in(terms) + list(sayings)
+    return (len(numbered(terms)) <= 12 and rows_done(terms) <= 12
+            and all(depth_of(term) <= 4 and parts_of(term) <= 30 for term in everything)
+            and math.lcm(*[common_period(term) for term in everything]) <= 6
+            and commons_met(terms) + sum(commons_of(term) for term in sayings) <= 2)
+
+
+def drawn_question(chance, blocks=2, rows=3, layers=2, number=3):
+    """Rows and a saying within the limits of [3]."""
+    while True:
+        terms = drawn_rows(chance, blocks, chance.randint(0, rows), layers, number)
+        term = drawn_saying(chance, layers, number)
+        if is_question(terms, [term]):
+            return terms, term

@@ -7,7 +7,7 @@ import pathlib
 import unittest
 
 import foreheads
-from foreheads import crowds, errors, lines, runs, sayings, sayingtexts, talks
+from foreheads import alike, counts, crowds, errors, lines, runs, sayings, sayingtexts, talks, told
 
 PACKAGE = pathlib.Path(foreheads.__file__).parent
 FILES = sorted(path for path in PACKAGE.iterdir() if path.name != "__pycache__")
@@ -37,10 +37,20 @@ CLASSES = (
     + [(talks, "Talk", ("rows",), {
         "read": ("cls", "text"), "without": ("self", "at"), "__call__": ("self", "crowd"),
         **{name: None for name in ("__len__", "__getitem__", "__add__", "__mul__", "__rmul__", "__eq__", "__str__")}})]
+    + [(counts, "Count", None, {
+        "by": ("self", "number"), "is_like": ("self", "other"), "greatest": ("self",), "__call__": ("self", "crowd")})]
+    + [(told, "Told", None, {
+        "stops": ("self", "at"), "comes": ("self", "at"), "where": ("self", "saying"), "wait": ("self",),
+        "far": ("self", "saying"), "__eq__": None})]
 )
 FUNCTIONS = ((sayings, "everybody", ("saying",)), (sayings, "somebody", ("saying",)),
              (sayingtexts, "read_saying", ("text",)), (runs, "heard", ("talk", "crowd")),
-             (runs, "holds", ("talk", "crowd", "saying")))
+             (runs, "holds", ("talk", "crowd", "saying")), (told, "told", ("talk",)),
+             (alike, "alike", ("p", "q", "given")), (alike, "partings", ("p", "q", "given")),
+             (alike, "least_parting", ("p", "q", "given")), (alike, "sure", ("talk", "saying", "given")),
+             (alike, "least_breach", ("talk", "saying", "given")), (alike, "needless", ("talk", "given")),
+             (alike, "reach", ("rows", "saying", "most", "given")),
+             (alike, "plan", ("rows", "saying", "most", "crowd", "given")))
 
 ALLOWED_BUILTINS = set("""len range enumerate zip min max sum abs sorted reversed int str bool bytes list tuple dict set
     isinstance ord repr any all divmod pow getattr hasattr setattr iter next map property staticmethod classmethod super

@@ -24,13 +24,15 @@ class Held:
             found = found.after_row(term)
         return found
 
-    def heard(self, terms, place, at=0):
-        """What is heard at a place, in pairs, and how things stand behind it."""
+    def heard(self, terms, place, at=0, come_to=None):
+        """What is heard at a place, in pairs, and how things stand behind it; puts the numbers of rows to a list."""
         found, now = [], self
+        come_to = [] if come_to is None else come_to
         for term in terms:
+            come_to.append(at)
             if term[0] == "times":
                 for _ in range(term[1]):
-                    more, now = now.heard(term[2], place, at + 1)
+                    more, now = now.heard(term[2], place, at + 1, come_to)
                     found += more
             else:
                 answer = now.answer(term, place)
@@ -39,7 +41,8 @@ class Held:
                 found.append((at, answer))
                 if term[0] == "if":
                     begin = at + 1 if answer else at + 1 + len(numbered(term[2]))
-                    more, now = now.part(term[1], answer).heard(term[2] if answer else term[3], place, begin)
+                    part = now.part(term[1], answer)
+                    more, now = part.heard(term[2] if answer else term[3], place, begin, come_to)
                     found += more
                 else:
                     now = now.after_row(term)
