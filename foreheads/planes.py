@@ -6,10 +6,10 @@ from foreheads.standing import Standing
 
 
 class Plane:
-    """The ground of all crowds, as far as tables tell them apart that go round in both numbers from a start on.
+    """The ground of all crowds: a table that goes round in both numbers, from a start on with a period.
 
-    The crowd (k, l), of so many below the start and one period, is the bit k * width + l. What goes round must do so
-    from the start on with the period: else it is wrong.
+    The crowd (k, l) is the bit k * width + l; greater crowds have the bits of those from which they differ by periods.
+    So the start must be late enough for each set that comes about here (`start_behind` and `start_where` tell one).
     """
 
     def __init__(self, start, period):
@@ -17,7 +17,6 @@ class Plane:
         self.period = period
         self.width = start + period
         self.whole = (1 << self.width * self.width) - 1
-        # The crowds without plain people, then those with the number of them from which on it goes round, and so on.
         row = (1 << self.width) - 1
         self.first_column = self.whole // row
         self.start_column = self.first_column << start
@@ -48,10 +47,6 @@ class Plane:
     def set_with(self, bits):
         """The set of the crowds with these bits."""
         return crowds_of(bits, (self.start, self.start), (self.period, self.period))
-
-    def beginning(self):
-        """How things stand ahead of all rows."""
-        return Standing(self, self.whole, self.has("marked"))
 
     def placed(self, goes, edges):
         """How things stand if a talk goes on in the crowds of a set, and the edges of another one are open."""

@@ -1,4 +1,4 @@
-"""From where on tables go round, and with which period, behind rows and where sayings hold."""
+"""From which start on, and with which period, the tables go round that tell where sayings hold and rows lead."""
 
 from math import lcm
 
@@ -62,13 +62,13 @@ def start_where(saying, start, period):
     open edges goes round from such a start on with the period."""
     if isinstance(saying, (AtLeast, Rest, Fact)):
         return greatest_start([set_of(saying)])
-    within = max([int(start_where(inner, start, period)) for inner in saying.inner()], default=0)
+    within = max([int(start_where(part, start, period)) for part in saying.inner()], default=0)
     if isinstance(saying, (Sure, Silent)):
         return start + 1
     if isinstance(saying, Knows):
         return max(int(start), int(within)) + 1
     if isinstance(saying, Common):
-        # Whether open edges lead away from a long line's end is told one period behind both starts.
+        # An open edge can lead to the other end of a line unless the line has a whole period behind both starts.
         return 2 * max(int(start), int(within)) + period
     return within
 

@@ -300,7 +300,9 @@ class Numbers(unittest.TestCase):
         self.assertGreater(grown, 50)
 
     def test_everybody_knows_that_everybody_knows(self):
-        for terms, term in questions(15, 9, rows=2, layers=1):
+        for terms, term in questions(25, 9, rows=2, layers=1):
+            if commons_of(term):
+                continue
             found = told(Talk(rows_of(terms)))
             saying = saying_of(term)
             far = found.far(saying)

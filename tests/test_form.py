@@ -7,7 +7,8 @@ import pathlib
 import unittest
 
 import foreheads
-from foreheads import alike, counts, crowds, errors, lines, runs, sayings, sayingtexts, talks, told
+from foreheads import (alike, counts, crowds, desk, errors, ever, lines, rooms, runs, sayings, sayingtexts, talks, told,
+                       ways)
 
 PACKAGE = pathlib.Path(foreheads.__file__).parent
 FILES = sorted(path for path in PACKAGE.iterdir() if path.name != "__pycache__")
@@ -42,6 +43,10 @@ CLASSES = (
     + [(told, "Told", None, {
         "stops": ("self", "at"), "comes": ("self", "at"), "where": ("self", "saying"), "wait": ("self",),
         "far": ("self", "saying"), "__eq__": None})]
+    + [(rooms, "Room", ("crowd",), {
+        "talk": ("self",), "line": ("self",), "do": ("self", "row"), "holds": ("self", "saying"), "undo": ("self",),
+        "trial": ("self",), "within": ("self", "work"), "several": ("self", "rows"), "__len__": None, "__iadd__": None})]
+    + [(desk, "Desk", (), {"say": ("self", "command"), "talk": ("self",), "__len__": None})]
 )
 FUNCTIONS = ((sayings, "everybody", ("saying",)), (sayings, "somebody", ("saying",)),
              (sayingtexts, "read_saying", ("text",)), (runs, "heard", ("talk", "crowd")),
@@ -50,7 +55,10 @@ FUNCTIONS = ((sayings, "everybody", ("saying",)), (sayings, "somebody", ("saying
              (alike, "least_parting", ("p", "q", "given")), (alike, "sure", ("talk", "saying", "given")),
              (alike, "least_breach", ("talk", "saying", "given")), (alike, "needless", ("talk", "given")),
              (alike, "reach", ("rows", "saying", "most", "given")),
-             (alike, "plan", ("rows", "saying", "most", "crowd", "given")))
+             (alike, "plan", ("rows", "saying", "most", "crowd", "given")),
+             (ways, "way", ("talk", "crowd", "saying")), (ways, "way_holds", ("talk", "crowd", "saying", "value")),
+             (ever, "same", ("p", "q")), (ever, "parting_line", ("p", "q")), (ever, "neutral", ("talk",)),
+             (ever, "reach_of", ("talk",)))
 
 ALLOWED_BUILTINS = set("""len range enumerate zip min max sum abs sorted reversed int str bool bytes list tuple dict set
     isinstance ord repr any all divmod pow getattr hasattr setattr iter next map property staticmethod classmethod super
@@ -152,6 +160,7 @@ class Form(unittest.TestCase):
             self.assertRegex(node.module, r"^foreheads\.[a-z]+$")
             source = TREES[PACKAGE / (node.module.split(".")[1] + ".py")]
             defined = {part.name for part in source.body if isinstance(part, (ast.ClassDef, ast.FunctionDef))}
+            defined |= {target.id for part in source.body if isinstance(part, ast.Assign) for target in part.targets}
             for part in node.names:
                 self.assertIn(part.name, defined, path)
                 self.assertIsNone(part.asname, path)
@@ -163,7 +172,8 @@ class Form(unittest.TestCase):
 
     def test_builtins(self):
         for path, node in nodes(ast.Name):
-            if node.id in vars(builtins):
+            # Where examples are run, `_` comes to be a builtin.
+            if node.id in vars(builtins) and node.id != "_":
                 self.assertIn(node.id, ALLOWED_BUILTINS, (path, node.lineno))
                 self.assertIsInstance(node.ctx, ast.Load, (path, node.lineno))
         for path, node in nodes(ast.arg):

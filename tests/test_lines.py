@@ -13,7 +13,7 @@ from foreheads.talks import Ask, Hands, If, Say, Step, Talk, Times
 from samples import any_values, is_integer, is_number
 from terms import (KINDS, depth_of, drawn_great_saying, drawn_row, drawn_rows, drawn_saying, parts_of, row_of, rows_of,
                    saying_of)
-from words import Stand
+from words import Stand, all_lines, drawn_line
 from worlds import worlds_of
 
 SOME = AtLeast("marked", 1)
@@ -22,24 +22,6 @@ BOTH = AtLeast("marked", 1) & AtLeast("plain", 1)
 
 def told(line):
     return line.people, line.goes, line.edges
-
-
-def drawn_line(chance, most=4):
-    """People, crowds and edges of a line as it may stand."""
-    people = chance.randint(0, most)
-    goes = tuple(k for k in range(people + 1) if chance.random() < 0.85)
-    edges = tuple(k for k in range(1, people + 1) if k in goes and k - 1 in goes and chance.random() < 0.75)
-    return people, goes, edges
-
-
-def all_lines(people):
-    """Every way in which a line with so many people can stand."""
-    for many in range(people + 2):
-        for goes in itertools.combinations(range(people + 1), many):
-            between = [k for k in range(1, people + 1) if k in goes and k - 1 in goes]
-            for closed in range(len(between) + 1):
-                for edges in itertools.combinations(between, closed):
-                    yield people, goes, edges
 
 
 class Making(unittest.TestCase):

@@ -1,5 +1,7 @@
 """Lines by the very words of [17], crowd by crowd: the second way for lines that are too long to go through all worlds."""
 
+import itertools
+
 from foreheads.crowds import Crowds
 
 from worlds import Held
@@ -101,3 +103,21 @@ class Stand(Held):
         if term[0] == "hands":
             return tuple(self.knows(kind, term[1], k) if self.many(kind, k) else None for kind in ("marked", "plain"))
         return self.holds(term[1], k)
+
+
+def drawn_line(chance, most=4):
+    """People, crowds and edges of a line as it may stand."""
+    people = chance.randint(0, most)
+    goes = tuple(k for k in range(people + 1) if chance.random() < 0.85)
+    edges = tuple(k for k in range(1, people + 1) if k in goes and k - 1 in goes and chance.random() < 0.75)
+    return people, goes, edges
+
+
+def all_lines(people):
+    """Every way in which a line with so many people can stand."""
+    for many in range(people + 2):
+        for goes in itertools.combinations(range(people + 1), many):
+            between = [k for k in range(1, people + 1) if k in goes and k - 1 in goes]
+            for closed in range(len(between) + 1):
+                for edges in itertools.combinations(between, closed):
+                    yield people, goes, edges
