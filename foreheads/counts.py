@@ -47,7 +47,7 @@ class Count:
         plain = place_of(crowd[1], self.late, self.period)
         down = self.lengthened(self.edges_over(marked, plain, self.down_edges, -1), crowd[0] - marked)
         up = self.lengthened(self.edges_over(marked, plain, self.up_edges, 1), crowd[1] - plain)
-        return min([self.first + int(many) for many in (down, up) if many is not None], default=None)
+        return min([int(self.first + many) for many in (down, up) if many is not None], default=None)
 
     def edges_over(self, marked, plain, edges, turn):
         """The number of edges from a crowd down or up (by one marked person less or more each) to a failing one."""

@@ -227,6 +227,27 @@ class ByHand(unittest.TestCase):
         self.assertEqual(parting_line(Talk([Ask(Knows("plain", ~far))]), Talk()).people, 11)
 
 
+    def test_all_crowds_at_which_three_steps_look(self):
+        # The edge in the middle stays open only if all edges of the line are: three steps come from either end to it.
+        upper = [(4, 3), (5, 2), (6, 1), (7, 0)]
+        rows = ["".join("+" if any(k == here[0] and l == here[1] for here in upper) else "-" for l in range(9))
+                for k in range(9)]
+        steps = Talk([Step()]) * 3
+        line = parting_line(steps, steps + Talk([Ask(Fact(Crowds((3, 3), (6, 6), rows)))]))
+        self.assertEqual(line, Line(7))
+        line = parting_line(Talk([Times(3, [Step()]), Ask(Fact(Crowds((3, 3), (6, 6), rows)))]), steps)
+        self.assertEqual(line, Line(7))
+
+    def test_many_people_of_both_kinds(self):
+        rows = ["".join("+" if k == l == 8 else "-" for l in range(9)) for k in range(9)]
+        far = Fact(Crowds((3, 3), (6, 6), rows))
+        for row in (Say(~far), Ask(far), Hands(~far), If(far, [])):
+            line = parting_line(Talk(), Talk([row]))
+            self.assertEqual(line.people, 16)
+            self.assertIn(8, line.goes)
+        self.assertIs(neutral(Talk([Say(~far | AtLeast("marked", 3))])), True)
+
+
 class Reach(unittest.TestCase):
     def test_drawn(self):
         chance = random.Random(6)

@@ -2,8 +2,10 @@
 
 import ast
 import builtins
+import functools
 import inspect
 import pathlib
+import re
 import unittest
 
 import foreheads
@@ -76,10 +78,12 @@ ALLOWED_LIBRARY = {"math": ("gcd", "lcm", "isqrt", "comb", "perm", "factorial"),
 BARRED_NODES = (ast.Global, ast.AsyncFunctionDef, ast.Await, ast.Div, ast.AnnAssign, ast.MatMult, ast.SetComp)
 
 
+@functools.cache
 def nodes(*kinds):
     return [(path, node) for path, tree in TREES.items() for node in ast.walk(tree) if isinstance(node, kinds)]
 
 
+@functools.cache
 def own_methods():
     return {part.name for _, node in nodes(ast.ClassDef) for part in node.body if isinstance(part, ast.FunctionDef)}
 
@@ -207,6 +211,47 @@ class Form(unittest.TestCase):
     def test_no_method_is_an_attribute_too(self):
         stored = {node.attr for _, node in nodes(ast.Attribute) if isinstance(node.ctx, ast.Store)}
         self.assertEqual(stored & own_methods(), set())
+
+    def is_plainly_a_number(self, node):
+        if isinstance(node, ast.BinOp):
+            return self.is_plainly_a_number(node.left) and self.is_plainly_a_number(node.right)
+        if isinstance(node, ast.Call):
+            return node.func.id in ("int", "len")
+        return isinstance(node, ast.Constant) and isinstance(node.value, int)
+
+    def test_what_is_compared_is_plainly_numbers(self):
+        # Sets of crowds have an order: of what takes the least or the greatest, one part must plainly be a number.
+        for path, node in nodes(ast.Call):
+            if isinstance(node.func, ast.Name) and node.func.id in ("min", "max"):
+                parts = [node.args[0].elt] if isinstance(node.args[0], ast.ListComp) else node.args
+                self.assertTrue(any(self.is_plainly_a_number(part) for part in parts), (path, node.lineno))
+            if isinstance(node.func, ast.Name) and node.func.id == "sorted":
+                self.assertEqual(node.args[0].func.id, "set", (path, node.lineno))
+
+    def test_all_attributes_that_are_read_are_assigned(self):
+        assigned = {node.attr for _, node in nodes(ast.Attribute) if isinstance(node.ctx, ast.Store)}
+        assigned |= {target.id for _, node in nodes(ast.ClassDef) for part in node.body if isinstance(part, ast.Assign)
+                     for target in part.targets}
+        for path, node in nodes(ast.Attribute):
+            if node.attr not in ALLOWED_METHODS | own_methods():
+                self.assertIn(node.attr, assigned, (path, node.lineno))
+
+    def test_each_function_and_method_is_used(self):
+        texts = [path.read_text(encoding="ascii") for path in FILES]
+        listed = {method for _, _, _, methods in CLASSES for method in methods} | {name for _, name, _ in FUNCTIONS}
+        for path, node in nodes(ast.FunctionDef):
+            if not node.name.startswith("__") and node.name not in listed:
+                found = sum(len(re.findall(rf"\b{node.name}\(", text)) for text in texts)
+                self.assertGreater(found, 1, (path, node.name))
+
+    def test_what_is_called_takes_what_is_passed(self):
+        # Methods of one name take as many arguments in all classes, so that it is plain what each call must pass.
+        takes = {}
+        for _, node in nodes(ast.ClassDef):
+            for part in node.body:
+                if isinstance(part, ast.FunctionDef) and not part.name.startswith("__"):
+                    takes.setdefault(part.name, set()).add(len(part.args.args))
+        self.assertEqual({name: many for name, many in takes.items() if len(many) > 1}, {})
 
     def test_stars_in_calls(self):
         for path, node in nodes(ast.Call):

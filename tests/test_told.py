@@ -77,14 +77,28 @@ class AgainstLines(unittest.TestCase):
 
     def test_common_knowledge_that_hangs_on_how_long_the_line_is(self):
         # In the middle of long lines all edges are closed: from one end of short lines one comes to the other end.
-        middle = ("&", ("least", "marked", 3), ("least", "plain", 3))
-        for say in ((), (("ask", ("least", "plain", 1)),), (("say", ("least", "marked", 1)),)):
+        for number, say in itertools.product((3, 6), ((), (("ask", ("least", "plain", 1)),), (("say", ("least", "marked", 1)),))):
+            middle = ("&", ("least", "marked", number), ("least", "plain", number))
             for goal in (("least", "marked", 1), ("least", "plain", 1), ("least", "plain", 2), ("least", "marked", 4)):
                 self.check((*say, ("ask", middle)), ("common", goal), 24)
+                self.check((("if", middle, (("ask", ("rest", "marked", 0, 2)),), ()), ("say", ("common", goal))), goal, 24)
                 for period in (2, 3, 6):
                     rest = ("&", ("rest", "plain", 1, period), ("rest", "marked", 0, period))
                     self.check((*say, ("ask", ("&", middle, rest))), ("common", goal), 24)
                     self.check((*say, ("hands", ("common", goal)), ("ask", rest)), ("common", ("not", rest)), 24)
+
+
+    def test_starts_that_no_row_may_miss(self):
+        # Each row looks a crowd farther than what stands ahead of it goes round from.
+        rows = [("hands", ("least", "marked", 6)), ("hands", ("least", "plain", 6)), ("ask", ("least", "marked", 6)),
+                ("ask", ("least", "plain", 6)), ("say", ("least", "marked", 6)), ("say", ("least", "plain", 6)),
+                ("step",), ("hands", ("rest", "marked", 0, 2)), ("hands", ("rest", "plain", 0, 2)), ("hands", ("silent",)),
+                ("if", ("least", "plain", 6), (("step",),), (("hands", ("rest", "marked", 1, 2)),))]
+        for terms in itertools.product(rows, repeat=2):
+            for term in (("knows", "plain", ("silent",)), ("knows", "marked", ("rest", "plain", 1, 2))):
+                self.check(terms, term, 15)
+        for first, last in itertools.product(rows[:6], rows):
+            self.check((first, ("step",), last, ("times", 2, (last,))), ("sure", "plain"), 20)
 
 
 class AgainstWorlds(unittest.TestCase):
