@@ -51,6 +51,11 @@ def package_objects():
     return found
 
 
+def all_crowds(most):
+    """All crowds with at most so many people, in their order."""
+    return [(marked, people - marked) for people in range(most + 1) for marked in range(people + 1)]
+
+
 def is_integer(value):
     return isinstance(value, int) and not isinstance(value, bool)
 

@@ -7,6 +7,7 @@ A saying is ("least", kind, number), ("rest", kind, rest, period), ("fact", star
 
 import math
 import operator
+import random
 
 from foreheads.crowds import Crowds
 from foreheads.sayings import AtLeast, Common, Fact, Knows, Rest, Silent, Sure
@@ -245,3 +246,9 @@ def drawn_question(chance, blocks=2, rows=3, layers=2, number=3):
         term = drawn_saying(chance, layers, number)
         if is_question(terms, [term]):
             return terms, term
+
+
+def drawn_questions(many, seed, **sizes):
+    """So many of them, the same ones for the same seed."""
+    chance = random.Random(seed)
+    return [drawn_question(chance, **sizes) for _ in range(many)]

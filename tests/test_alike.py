@@ -13,6 +13,7 @@ from foreheads.sayings import AtLeast, Common, Fact, Knows, Rest, Silent, Sure, 
 from foreheads.talks import Ask, Hands, If, Say, Step, Talk, Times
 from foreheads.told import told
 
+from samples import all_crowds
 from terms import drawn_great_saying, drawn_question, drawn_row, drawn_saying, is_question, numbered, rows_of, saying_of
 from words import Stand
 from worlds import worlds_of
@@ -21,11 +22,6 @@ SOME = AtLeast("marked", 1)
 FUNCTIONS = {"alike": ("p", "q"), "partings": ("p", "q"), "least_parting": ("p", "q"), "sure": ("talk", "saying"),
              "least_breach": ("talk", "saying"), "needless": ("talk",), "reach": ("rows", "saying", "most"),
              "plan": ("rows", "saying", "most", "crowd")}
-
-
-def all_crowds(most):
-    """All crowds with at most so many people, in their order."""
-    return [(marked, people - marked) for people in range(most + 1) for marked in range(people + 1)]
 
 
 def least(crowds):

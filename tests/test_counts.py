@@ -1,7 +1,6 @@
 """Promises [20], [21] and [22], the part of [4] about counts, and what [2] and [3] say of them."""
 
 import itertools
-import random
 import unittest
 
 from foreheads.counts import Count
@@ -12,22 +11,13 @@ from foreheads.sayings import AtLeast, Common, Knows, Rest, Silent, Sure, everyb
 from foreheads.talks import Ask, Say, Step, Talk
 from foreheads.told import told
 
-from samples import any_values, is_crowd
-from terms import commons_met, commons_of, drawn_question, rows_of, saying_of
+from samples import all_crowds, any_values, is_crowd
+from terms import commons_met, commons_of, drawn_questions, rows_of, saying_of
 
 SOME = AtLeast("marked", 1)
 BOTH = AtLeast("marked", 1) & AtLeast("plain", 1)
 STEP = Talk([Step()])
 GREAT = (7, 10 ** 5, 10 ** 5 + 1, 10 ** 5 + 2, 10 ** 29 - 5, 10 ** 29, 10 ** 30)
-
-
-def questions(many, seed, **sizes):
-    chance = random.Random(seed)
-    return [drawn_question(chance, **sizes) for _ in range(many)]
-
-
-def all_crowds(most):
-    return [(marked, people - marked) for people in range(most + 1) for marked in range(people + 1)]
 
 
 def rounds_on(line):
@@ -89,15 +79,15 @@ class AgainstLines(unittest.TestCase):
                         self.assertNotIn(crowd, count.never)
 
     def test_drawn(self):
-        for terms, term in questions(60, 1):
+        for terms, term in drawn_questions(60, 1):
             self.check(terms, term)
 
     def test_greater_numbers(self):
-        for terms, term in questions(25, 2, rows=4, number=6, layers=3):
+        for terms, term in drawn_questions(25, 2, rows=4, number=6, layers=3):
             self.check(terms, term)
 
     def test_common(self):
-        for terms, term in questions(80, 3):
+        for terms, term in drawn_questions(80, 3):
             if commons_met(terms) + commons_of(term):
                 self.check(terms, term)
 
@@ -127,15 +117,15 @@ class FarCrowds(unittest.TestCase):
                                  [number is not None and number <= most for most in (0, 1, 2, 5, 20)])
 
     def test_drawn(self):
-        for terms, term in questions(40, 4):
+        for terms, term in drawn_questions(40, 4):
             self.check(terms, term)
 
     def test_greater_numbers(self):
-        for terms, term in questions(20, 5, rows=5, number=6):
+        for terms, term in drawn_questions(20, 5, rows=5, number=6):
             self.check(terms, term)
 
     def test_six_more(self):
-        for terms, term in questions(40, 6):
+        for terms, term in drawn_questions(40, 6):
             found = told(Talk(rows_of(terms)))
             for count in (found.wait(), found.far(saying_of(term))):
                 for near in ((60, 60), (61, 58), (2, 70), (70, 3)):
@@ -256,7 +246,7 @@ class ByHand(unittest.TestCase):
 
 class Numbers(unittest.TestCase):
     def test_by_each_number(self):
-        for terms, term in questions(20, 7):
+        for terms, term in drawn_questions(20, 7):
             found = told(Talk(rows_of(terms)))
             for count in (found.wait(), found.far(saying_of(term))):
                 numbers = {crowd: count(crowd) for crowd in all_crowds(14) if crowd in count.crowds}
@@ -280,7 +270,7 @@ class Numbers(unittest.TestCase):
 
     def test_greatest(self):
         known, grown = 0, 0
-        for terms, term in questions(150, 8):
+        for terms, term in drawn_questions(150, 8):
             found = told(Talk(rows_of(terms)))
             for count in (found.wait(), found.far(saying_of(term))):
                 near = [count(crowd) for crowd in all_crowds(24) if crowd in count.crowds]
@@ -300,7 +290,7 @@ class Numbers(unittest.TestCase):
         self.assertGreater(grown, 50)
 
     def test_everybody_knows_that_everybody_knows(self):
-        for terms, term in questions(25, 9, rows=2, layers=1):
+        for terms, term in drawn_questions(25, 9, rows=2, layers=1):
             if commons_of(term):
                 continue
             found = told(Talk(rows_of(terms)))
@@ -315,7 +305,7 @@ class Numbers(unittest.TestCase):
                 saying = everybody(saying)
 
     def test_common_knowledge_is_where_there_is_none(self):
-        for terms, term in questions(25, 10, layers=1):
+        for terms, term in drawn_questions(25, 10, layers=1):
             found, saying = told(Talk(rows_of(terms))), saying_of(term)
             if saying.commons == 0 and commons_met(terms) < 2:
                 self.assertEqual(found.far(saying).never, found.where(Common(saying)))
@@ -346,7 +336,7 @@ class NoCrowds(unittest.TestCase):
 
 class Likeness(unittest.TestCase):
     def test_asked_anew(self):
-        for terms, term in questions(25, 11):
+        for terms, term in drawn_questions(25, 11):
             talk, saying = Talk(rows_of(terms)), saying_of(term)
             found = told(talk)
             for one, other in ((found.wait(), told(talk).wait()), (found.far(saying), told(talk).far(saying))):
@@ -355,7 +345,7 @@ class Likeness(unittest.TestCase):
                 self.assertIs(one.is_like(one), True)
 
     def test_other_talks(self):
-        counts = [count for terms, term in questions(16, 12, layers=1) for found in [told(Talk(rows_of(terms)))]
+        counts = [count for terms, term in drawn_questions(16, 12, layers=1) for found in [told(Talk(rows_of(terms)))]
                   for count in (found.wait(), found.far(saying_of(term)))]
         crowds = list(itertools.product((*range(9), *range(60, 66), *range(10 ** 9, 10 ** 9 + 6)), repeat=2))
         alike = [tuple(count(crowd) if crowd in count.crowds else "-" for crowd in crowds) for count in counts]
@@ -406,7 +396,7 @@ class Objects(unittest.TestCase):
         self.assertIs(found.wait().is_like(other=found.wait()), True)
 
     def test_asked_once_more(self):
-        for terms, term in questions(10, 13):
+        for terms, term in drawn_questions(10, 13):
             found = told(Talk(rows_of(terms)))
             count = found.far(saying_of(term))
             crowds = [crowd for crowd in itertools.product((*range(7), 10 ** 20), repeat=2) if crowd in count.crowds]

@@ -10,16 +10,13 @@ from foreheads.runs import heard, holds
 from foreheads.sayings import AtLeast, Common, Knows, Rest, Silent, Sure
 from foreheads.talks import Ask, Hands, If, Say, Step, Talk, Times
 
+from samples import all_crowds
 from terms import drawn_great_saying, drawn_rows, drawn_saying, rows_of, saying_of
 from words import Stand
 from worlds import Said, worlds_of
 
 SOME = AtLeast("marked", 1)
 BOTH = AtLeast("marked", 1) & AtLeast("plain", 1)
-
-
-def all_crowds(most):
-    return [(marked, people - marked) for people in range(most + 1) for marked in range(people + 1)]
 
 
 class AgainstWorlds(unittest.TestCase):

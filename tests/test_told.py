@@ -11,7 +11,7 @@ from foreheads.sayings import AtLeast, Common, Knows, Rest, Silent, Sure
 from foreheads.talks import Ask, Hands, If, Say, Step, Talk, Times
 from foreheads.told import Told, told
 
-from samples import any_values
+from samples import all_crowds, any_values
 from terms import (all_lines, commons_met, commons_of, depth_of, drawn_great_saying, drawn_question, is_question, numbered,
                    parts_of, row_of, rows_of, saying_of)
 from words import Stand
@@ -20,10 +20,6 @@ from worlds import Said, worlds_of
 SOME = AtLeast("marked", 1)
 BOTH = AtLeast("marked", 1) & AtLeast("plain", 1)
 EDGES = Crowds.at_least("marked", 1)
-
-
-def all_crowds(most):
-    return [(marked, people - marked) for people in range(most + 1) for marked in range(people + 1)]
 
 
 def questions(many, seed, *, wanted=lambda terms, term: True, **sizes):

@@ -1,7 +1,6 @@
 """Promise [25], and what [1] and [2] say of ways."""
 
 import itertools
-import random
 import unittest
 
 from foreheads.errors import NoCrowd
@@ -10,21 +9,12 @@ from foreheads.talks import Ask, If, Say, Step, Talk
 from foreheads.told import told
 from foreheads.ways import way, way_holds
 
-from samples import any_values
-from terms import KINDS, drawn_question, rows_of, saying_of
+from samples import all_crowds, any_values
+from terms import KINDS, drawn_questions, rows_of, saying_of
 from words import Stand
 from worlds import worlds_of
 
 SOME = AtLeast("marked", 1)
-
-
-def all_crowds(most):
-    return [(marked, people - marked) for people in range(most + 1) for marked in range(people + 1)]
-
-
-def questions(many, seed, **sizes):
-    chance = random.Random(seed)
-    return [drawn_question(chance, **sizes) for _ in range(many)]
 
 
 def shortest(worlds, term, world):
@@ -76,7 +66,7 @@ class AgainstWorlds(unittest.TestCase):
 
     def test_drawn(self):
         found = []
-        for terms, term in questions(70, 1, layers=1):
+        for terms, term in drawn_questions(70, 1, layers=1):
             self.check(terms, term, found)
         for wanted in (None, (), ("marked",), ("plain",)):
             self.assertIn(wanted, found)
@@ -102,15 +92,15 @@ class AgainstCounts(unittest.TestCase):
                     self.assertIs(way_holds(talk, crowd, saying, kinds[:-1]), False)
 
     def test_drawn(self):
-        for terms, term in questions(40, 2):
+        for terms, term in drawn_questions(40, 2):
             self.check(terms, term, 12)
 
     def test_greater_numbers(self):
-        for terms, term in questions(12, 3, number=6, layers=3, rows=5):
+        for terms, term in drawn_questions(12, 3, number=6, layers=3, rows=5):
             self.check(terms, term, 12)
 
     def test_forty_people(self):
-        for terms, term in questions(25, 4):
+        for terms, term in drawn_questions(25, 4):
             talk, saying = Talk(rows_of(terms)), saying_of(term)
             far = told(talk).far(saying)
             for crowd in ((20, 20), (40, 0), (0, 40), (39, 1), (7, 33)):

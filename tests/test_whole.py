@@ -19,19 +19,11 @@ from foreheads.talks import Say, Step, Talk
 from foreheads.told import Told, told
 from foreheads.ways import way, way_holds
 
-from terms import commons_met, commons_of, drawn_question, drawn_rows, is_question, rows_of, saying_of
+from samples import all_crowds
+from terms import commons_met, commons_of, drawn_questions, drawn_rows, is_question, rows_of, saying_of
 from worlds import Said, worlds_of
 
 SOME = AtLeast("marked", 1)
-
-
-def all_crowds(most):
-    return [(marked, people - marked) for people in range(most + 1) for marked in range(people + 1)]
-
-
-def questions(many, seed, **sizes):
-    chance = random.Random(seed)
-    return [drawn_question(chance, **sizes) for _ in range(many)]
 
 
 class TheSame(unittest.TestCase):
@@ -75,7 +67,7 @@ class TheSame(unittest.TestCase):
 
     def test_drawn(self):
         done = []
-        for terms, term in questions(50, 1):
+        for terms, term in drawn_questions(50, 1):
             talk, saying, desk = Talk(rows_of(terms)), saying_of(term), Desk()
             desk.say(("read " + str(talk).replace("\n", " ; ")) if terms else "read")
             found = told(talk)
@@ -89,7 +81,7 @@ class TheSame(unittest.TestCase):
         self.assertGreater(done.count(False), 80)
 
     def test_against_worlds(self):
-        for terms, term in questions(25, 2):
+        for terms, term in drawn_questions(25, 2):
             talk, saying = Talk(rows_of(terms)), saying_of(term)
             found = told(talk)
             for crowd in all_crowds(4):
@@ -119,7 +111,7 @@ class TheSame(unittest.TestCase):
                         self.assertIs(alike(p + q, p), True)
 
     def test_far_is_how_often_everybody_knows(self):
-        for terms, term in questions(15, 4, rows=2, layers=1):
+        for terms, term in drawn_questions(15, 4, rows=2, layers=1):
             talk, saying = Talk(rows_of(terms)), saying_of(term)
             far = told(talk).far(saying)
             if commons_of(term):
@@ -146,7 +138,7 @@ class TheSame(unittest.TestCase):
     def test_the_form_of_tables(self):
         # Sets, and the crowds in which a count is none, go round from their starts on with periods that divide that of
         # the question.
-        for terms, term in questions(40, 5):
+        for terms, term in drawn_questions(40, 5):
             found = told(Talk(rows_of(terms)))
             for crowds in (found.goes, found.edges, found.where(saying_of(term)), found.far(saying_of(term)).never):
                 self.assertIs(type(crowds), Crowds)
@@ -190,7 +182,7 @@ class Objects(unittest.TestCase):
     def test_asked_in_any_order(self):
         # What is asked in between makes no difference, and what is passed stays as it is.
         chance = random.Random(6)
-        for terms, term in questions(8, 7):
+        for terms, term in drawn_questions(8, 7):
             talk, saying, crowd = Talk(rows_of(terms)), saying_of(term), (3, 2)
             texts = str(talk), str(saying), str(crowd)
             calls = [lambda: str(told(talk).where(saying)), lambda: str(told(talk).goes), lambda: sure(talk, saying),
